@@ -53,10 +53,9 @@ func TestRead(t *testing.T) {
 		}
 	}
 	b := slot.Put(slot.Slot{Count: 1})
-	if b[23] = 0x80; true {
-		if _, ok := slot.Read(b); ok {
-			t.Error("Read of an area of 2^63")
-		}
+	b[23] = 0x80
+	if _, ok := slot.Read(b); ok {
+		t.Error("Read of an area of 2^63")
 	}
 }
 
