@@ -40,3 +40,14 @@ func Base(b api.Base) api.Base {
 	b.Conf, b.Data = Plain(b.Conf), Plain(b.Data)
 	return b
 }
+
+// Entries: a copy.
+func Entries(l []api.Entry) []api.Entry {
+	return List(l, Entry)
+}
+
+// Image: a copy.
+func Image(m api.Image) api.Image {
+	m.Base, m.Log = Base(m.Base), Entries(m.Log)
+	return m
+}
