@@ -2,6 +2,9 @@
 package parts
 
 import (
+	"bytes"
+	"slices"
+
 	"memento/api"
 	"memento/pack"
 )
@@ -21,7 +24,7 @@ func Plain[T any](l []T) []T {
 }
 
 // Nums: numbers from 0 on as pack.Put has them.
-func Nums(l ...int) []byte {
+func Nums[N int | int64](l ...N) []byte {
 	var b []byte
 	for _, n := range l {
 		b = append(b, pack.Put(uint64(n))...)
@@ -50,4 +53,50 @@ func Entries(l []api.Entry) []api.Entry {
 func Image(m api.Image) api.Image {
 	m.Base, m.Log = Base(m.Base), Entries(m.Log)
 	return m
+}
+
+// Version: a copy.
+func Version(v api.Version) api.Version {
+	v.Data = Plain(v.Data)
+	return v
+}
+
+// Versions: a copy.
+func Versions(l []api.Version) []api.Version {
+	return List(l, Version)
+}
+
+// Chunk: a copy.
+func Chunk(c api.Chunk) api.Chunk {
+	c.Hist = List(c.Hist, Versions)
+	return c
+}
+
+// Item: a copy.
+func Item(x api.Item) api.Item {
+	x.Data = Plain(x.Data)
+	return x
+}
+
+// Items: a copy.
+func Items(l []api.Item) []api.Item {
+	return List(l, Item)
+}
+
+// SameItems: are a and b alike?
+func SameItems(a, b []api.Item) bool {
+	return slices.EqualFunc(a, b, func(x, y api.Item) bool { return x.Block == y.Block && bytes.Equal(x.Data, y.Data) })
+}
+
+// ItemsRight: are l 1 to MaxItems items of unlike blocks from 0 on, below blocks, with size bytes each?
+func ItemsRight(blocks, size int, l []api.Item) bool {
+	for i, x := range l {
+		if x.Block < 0 || x.Block >= blocks || len(x.Data) != size {
+			return false
+		}
+		if slices.ContainsFunc(l[:i], func(y api.Item) bool { return y.Block == x.Block }) {
+			return false
+		}
+	}
+	return len(l) >= 1 && len(l) <= api.MaxItems
 }
