@@ -100,3 +100,15 @@ func ItemsRight(blocks, size int, l []api.Item) bool {
 	}
 	return len(l) >= 1 && len(l) <= api.MaxItems
 }
+
+// Write: a copy.
+func Write(w api.Write) api.Write {
+	w.Items = Items(w.Items)
+	return w
+}
+
+// Volume: a copy.
+func Volume(v api.Volume) api.Volume {
+	v.Place, v.Pins, v.Writes = Plain(v.Place), Plain(v.Pins), List(v.Writes, Write)
+	return v
+}
