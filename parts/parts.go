@@ -112,3 +112,9 @@ func Volume(v api.Volume) api.Volume {
 	v.Place, v.Pins, v.Writes = Plain(v.Place), Plain(v.Pins), List(v.Writes, Write)
 	return v
 }
+
+// Stream: a copy.
+func Stream(s api.Stream) api.Stream {
+	s.Items = Items(s.Items)
+	return s
+}
