@@ -88,6 +88,11 @@ func SameItems(a, b []api.Item) bool {
 	return slices.EqualFunc(a, b, func(x, y api.Item) bool { return x.Block == y.Block && bytes.Equal(x.Data, y.Data) })
 }
 
+// SameWrites: are a and b alike?
+func SameWrites(a, b []api.Write) bool {
+	return slices.EqualFunc(a, b, func(x, y api.Write) bool { return x.Seq == y.Seq && SameItems(x.Items, y.Items) })
+}
+
 // ItemsRight: are l 1 to MaxItems items of unlike blocks from 0 on, below blocks, with size bytes each?
 func ItemsRight(blocks, size int, l []api.Item) bool {
 	for i, x := range l {
