@@ -2,6 +2,8 @@
 package pack
 
 import (
+	"slices"
+
 	"memento/api"
 )
 
@@ -35,7 +37,7 @@ func Join(l ...[]byte) []byte {
 	for _, b := range l {
 		n += len(b)
 	}
-	all := make([]byte, 0, n)
+	all := slices.Grow([]byte(nil), n)
 	for _, b := range l {
 		all = append(all, b...)
 	}

@@ -11,7 +11,7 @@ import (
 
 // List: a copy of l, each of it copied by one.
 func List[T any](l []T, one func(T) T) []T {
-	var all []T
+	all := slices.Grow([]T(nil), len(l))
 	for _, x := range l {
 		all = append(all, one(x))
 	}

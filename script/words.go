@@ -39,18 +39,18 @@ func (w *words) num(most uint64) uint64 {
 	return n
 }
 
-// int: the number that is next.
-func (w *words) int() int {
+// number: the number that is next.
+func (w *words) number() int {
 	return int(w.num(math.MaxInt64))
 }
 
-// intOrNone: the number that is next, or -1.
-func (w *words) intOrNone() int {
+// numberOrNone: the number that is next, or -1.
+func (w *words) numberOrNone() int {
 	if len(w.left) > 0 && w.left[0] == "-1" {
 		w.next()
 		return -1
 	}
-	return w.int()
+	return w.number()
 }
 
 // cmd: the call to group 0 whose bytes are next.
@@ -80,33 +80,33 @@ func (w *words) event(first string) api.Event {
 	case "tick":
 		return api.Event{Kind: api.EvTick}
 	case "arrive":
-		return api.Event{Kind: api.EvArrive, N: w.int()}
+		return api.Event{Kind: api.EvArrive, N: w.number()}
 	case "twice":
-		return api.Event{Kind: api.EvTwice, N: w.int()}
+		return api.Event{Kind: api.EvTwice, N: w.number()}
 	case "drop":
-		return api.Event{Kind: api.EvDrop, N: w.int()}
+		return api.Event{Kind: api.EvDrop, N: w.number()}
 	case "crash":
-		return api.Event{Kind: api.EvCrash, Node: w.int()}
+		return api.Event{Kind: api.EvCrash, Node: w.number()}
 	case "power":
-		return api.Event{Kind: api.EvPower, Node: w.int(), N: w.int()}
+		return api.Event{Kind: api.EvPower, Node: w.number(), N: w.number()}
 	case "start":
-		return api.Event{Kind: api.EvStart, Node: w.int(), Mask: w.num(math.MaxUint64), N: w.intOrNone()}
+		return api.Event{Kind: api.EvStart, Node: w.number(), Mask: w.num(math.MaxUint64), N: w.numberOrNone()}
 	case "split":
 		return api.Event{Kind: api.EvSplit, Mask: w.num(math.MaxUint64)}
 	}
-	return api.Event{Kind: api.EvCall, Node: w.int(), Call: w.call(first)}
+	return api.Event{Kind: api.EvCall, Node: w.number(), Call: w.call(first)}
 }
 
 // call: the call that the words behind the node say.
 func (w *words) call(first string) api.Call {
-	c := api.Call{Id: w.int()}
+	c := api.Call{Id: w.number()}
 	switch first {
 	case "call":
 		c.Kind, c.Cmd = api.CallVol, w.cmd()
 	case "read":
-		c.Kind, c.Vol, c.Block, c.At = api.CallRead, w.int(), w.int(), int64(w.int())
+		c.Kind, c.Vol, c.Block, c.At = api.CallRead, w.number(), w.number(), int64(w.number())
 	case "conf":
-		c.Kind, c.Group, c.Node, c.Add = api.CallConf, w.int(), w.int(), w.num(1) == 1
+		c.Kind, c.Group, c.Node, c.Add = api.CallConf, w.number(), w.number(), w.num(1) == 1
 	default:
 		w.bad = true
 	}
