@@ -337,3 +337,22 @@ func TestAllArguments(t *testing.T) {
 		}
 	}
 }
+
+// P40.6: a Prune leaves each state from its floor on as it was.
+func TestPruneLeavesStates(t *testing.T) {
+	v := some()
+	v.Pins = nil
+	for at := v.Floor; at <= volume.Len(v); at++ {
+		p, r := volume.Do(v, api.VolCmd{Kind: api.Prune, At: at})
+		if r.Code != api.OK || r.Floor != at || r.Len != volume.Len(v) {
+			t.Fatalf("Prune to %d: %v", at, r)
+		}
+		for later := at; later <= volume.Len(v); later++ {
+			was, _ := volume.State(v, later)
+			is, e := volume.State(p, later)
+			if e != api.OK || !reflect.DeepEqual(is, was) {
+				t.Errorf("pruned to %d it is %q at %d, not %q", at, is, later, was)
+			}
+		}
+	}
+}
