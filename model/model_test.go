@@ -68,7 +68,15 @@ func TestOrdered(t *testing.T) {
 		{"ab", []model.Tale{tale(put("a"), 0, 3, 2), tale(put("b"), 1, 4, 1)}, false}, // others' Items
 		{"ab", []model.Tale{tale(put("a"), 0, 3, 1)}, false},                          // a write of nobody
 		{"ab", []model.Tale{tale(put("a"), 0, 3, 1), never(put("b"), 9)}, true},
-		{"ab", []model.Tale{tale(put("a"), 0, 3, 1), failed(put("b"), 1, 2, api.ErrLeader)}, false},
+		{"ab", []model.Tale{tale(put("a"), 0, 3, 1), failed(put("b"), 1, 2, api.ErrLeader)}, true},
+		{"ab", []model.Tale{tale(put("a"), 0, 3, 1), failed(put("c"), 1, 2, api.ErrLeader)}, false}, // others' Items
+		{"ab", []model.Tale{tale(put("a"), 0, 3, 1), failed(other, 1, 2, api.ErrLeader)}, false},
+		{"ab", []model.Tale{tale(put("a"), 0, 3, 1), failed(imported("b"), 1, 2, api.ErrNone)}, true},
+		{"ab", []model.Tale{tale(put("a"), 0, 3, 1), failed(stat(), 1, 2, api.ErrNone)}, false},
+		// Of an answer that tells an error, its Len and its time don't count.
+		{"a", []model.Tale{failed(put("a"), 0, 1, api.ErrForm)}, true},
+		{"ab", []model.Tale{failed(put("a"), 4, 5, api.ErrForm), tale(put("b"), 0, 1, 2)}, true},
+		{"aa", []model.Tale{failed(put("a"), 4, 5, api.ErrForm), tale(put("a"), 0, 1, 2)}, true},
 		{"a", []model.Tale{tale(put("a"), 0, 3, 1), failed(put("b"), 1, 2, api.ErrForm), failed(put("a"), 1, 2, api.ErrForm)}, true},
 		{"a", []model.Tale{never(put("a"), 0), never(put("q"), 1)}, true},
 		{"a", []model.Tale{never(imported("a"), 0)}, true},
